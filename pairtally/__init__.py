@@ -1,0 +1,1 @@
+"""Pairtally: pairings of a web counted by size, and papers for their rows."""

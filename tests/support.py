@@ -1,0 +1,125 @@
+"""What several tests need: webs, going through all pairings, and things that are bent."""
+
+import copy
+import random
+
+ODD_THINGS = (
+    None, True, False, 0, 1, -1, 7, 10 ** 39, -(10 ** 39), "", "a", "bare", "4 0-1", (), [], ((),), ([],), [()],
+    (0,), (1,), (True,), (None,), ("",), [0], [1], (0, 0), (0, 1), [0, 1], (0, ()), (0, []), [0, ()], (False, ()),
+    (1, 2, 3), ((), ()), [(), ()], ((), (), ()), (((((), ),),),), (0, ((0, 1),)), (2, [(0, 1)]), (2, ([0, 1],)),
+)
+
+
+def full(n):
+    return n, tuple((i, j) for i in range(n) for j in range(i + 1, n))
+
+
+def line(n):
+    return n, tuple((k, k + 1) for k in range(n - 1))
+
+
+def ring(n):
+    return n, tuple(sorted(line(n)[1] + ((0, n - 1),)))
+
+
+def star(n):
+    return n, tuple((0, k) for k in range(1, n))
+
+
+def bare(n):
+    return n, ()
+
+
+def drawn_web(source, n, chance):
+    return n, tuple(tie for tie in full(n)[1] if source.random() < chance)
+
+
+def drawn_tree(source, n):
+    """A tree whose places are numbered in no order."""
+    names = list(range(n))
+    source.shuffle(names)
+    pairs = [(names[source.randrange(k)], names[k]) for k in range(1, n)]
+    return n, tuple(sorted((min(pair), max(pair)) for pair in pairs))
+
+
+def some_webs(most=9, each=6, seed=1):
+    """Webs of 0 to most places: bare, full, lines, rings, stars, and drawn ones."""
+    source = random.Random(seed)
+    webs = []
+    for n in range(most + 1):
+        webs += [bare(n), full(n), line(n), star(n)]
+        if n >= 3:
+            webs.append(ring(n))
+        webs += [drawn_web(source, n, source.choice((0.15, 0.3, 0.5, 0.8))) for again in range(each)]
+    return list(dict.fromkeys(webs))
+
+
+def all_pairings(web):
+    """Every pairing, by taking or leaving each tie in turn."""
+    found = [()]
+    for tie in web[1]:
+        found += [p + (tie,) for p in found if not any(set(tie) & set(other) for other in p)]
+    return found
+
+
+def row_gone_through(web):
+    sizes = [len(pairing) for pairing in all_pairings(web)]
+    return tuple(sizes.count(size) for size in range(max(sizes) + 1))
+
+
+def kind_bends(thing):
+    """Copies of a thing of tuples, numbers and texts, each with one part, at any depth, of another kind."""
+    if isinstance(thing, tuple):
+        yield list(thing)
+        for k, part in enumerate(thing):
+            for other in kind_bends(part):
+                yield thing[:k] + (other,) + thing[k + 1:]
+    elif isinstance(thing, str):
+        yield thing + "s"
+    else:
+        yield str(thing)
+        yield (thing,)
+        if thing in (0, 1):
+            yield bool(thing)
+    yield None
+    yield [thing]
+
+
+def exact(thing):
+    """A text that tells truths from numbers and lists from tuples."""
+    return repr(thing)
+
+
+def assert_unchanged(case, action, *things):
+    """Asks twice of things that hold lists, and sees that they are as they were."""
+    kept = copy.deepcopy(things)
+    first = outcome(action, *things)
+    second = outcome(action, *things)
+    case.assertEqual(exact(things), exact(kept))
+    case.assertEqual(first, second)
+
+
+def outcome(action, *things):
+    """What an action tells or refuses, as something that can be compared."""
+    try:
+        return exact(action(*things))
+    except ValueError as refusal:
+        return exact((refusal.__class__.__name__, vars(refusal)))
+
+
+def assert_refused(case, kind, fields, action, *things):
+    """Sees that the action refuses with just this kind of error and these fields, True being no 1."""
+    with case.assertRaises(kind) as caught:
+        action(*things)
+    case.assertIs(caught.exception.__class__, kind)
+    case.assertEqual(exact(vars(caught.exception)), exact(fields))
+
+
+def assert_no_paper(case, word, place, action, *things):
+    from pairtally.errors import NoPaper
+    assert_refused(case, NoPaper, {"word": word, "place": place}, action, *things)
+
+
+def assert_truth(case, expected, told, about):
+    """Sees that what is told is True or False itself."""
+    case.assertIs(told, expected, about)
