@@ -3,7 +3,18 @@
 import copy
 import random
 
+
+
+def nested(kind, depth):
+    """Empty tuples or lists within one another."""
+    thing = kind()
+    for step in range(depth - 1):
+        thing = kind([thing])
+    return thing
+
+
 ODD_THINGS = (
+    nested(tuple, 20), nested(list, 20), (1,) * 19000 + (None,), (2, ((0, 1), nested(tuple, 18))),
     None, True, False, 0, 1, -1, 7, 10 ** 39, -(10 ** 39), "", "a", "bare", "4 0-1", (), [], ((),), ([],), [()],
     (0,), (1,), (True,), (None,), ("",), [0], [1], (0, 0), (0, 1), [0, 1], (0, ()), (0, []), [0, ()], (False, ()),
     (1, 2, 3), ((), ()), [(), ()], ((), (), ()), (((((), ),),),), (0, ((0, 1),)), (2, [(0, 1)]), (2, ([0, 1],)),
