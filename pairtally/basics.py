@@ -6,6 +6,11 @@ def is_whole(thing):
     return isinstance(thing, int) and not isinstance(thing, bool)
 
 
+def has_parts(thing, many):
+    """Whether the thing, any, is a tuple of so many parts."""
+    return isinstance(thing, tuple) and len(thing) == many
+
+
 def are_whole(thing):
     """Whether the thing is a tuple of whole numbers alone."""
     return isinstance(thing, tuple) and all(is_whole(part) for part in thing)

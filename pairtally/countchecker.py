@@ -1,5 +1,6 @@
 """The checker of count papers: it looks at their entries alone and goes through no pairings."""
 
+from pairtally.basics import has_parts
 from pairtally.errors import NoPaper
 from pairtally.rows import is_row, row_on, row_product, row_sum
 from pairtally.webs import (
@@ -32,7 +33,7 @@ def look_at_shape(thing):
 
 def is_entry(thing):
     """Whether the thing, any, is an entry by kind."""
-    if not isinstance(thing, tuple) or len(thing) != 3:
+    if not has_parts(thing, 3):
         return False
     web, row, way = thing
     return is_web(web) and web[0] <= MOST_PLACES and is_row(row) and is_way(web, way)
@@ -42,7 +43,7 @@ def is_way(web, thing):
     """Whether the thing, any, is a way for an entry of the web."""
     if thing == ("bare",) or thing == ("parts",):
         return True
-    if not isinstance(thing, tuple) or len(thing) != 2:
+    if not has_parts(thing, 2):
         return False
     word, by = thing
     if word == "tie":

@@ -4,14 +4,18 @@ from pairtally.basics import divisor
 from pairtally.polys import derived, poly_sum, times
 
 
-def plain(poly):
-    """The poly, not nought, made PLAIN."""
+def content(poly):
+    """The greatest whole number that divides all numbers of the poly; of nought 0."""
     shared = 0
     for number in poly:
         shared = divisor(shared, number)
-    if poly[-1] < 0:
-        shared = -shared
-    return tuple(number // shared for number in poly)
+    return shared
+
+
+def plain(poly):
+    """The poly, not nought, made PLAIN."""
+    by = content(poly) if poly[-1] > 0 else -content(poly)
+    return tuple(number // by for number in poly)
 
 
 def raised(poly, by):
@@ -19,34 +23,36 @@ def raised(poly, by):
     return (0,) * by + poly
 
 
+def long_division(one, other):
+    """(a, q, rest): a, from 1 on, times the one is q times the other, not nought, and the rest of less degree."""
+    a = 1
+    numbers = [0] * max(0, len(one) - len(other) + 1)
+    rest = one
+    while len(rest) >= len(other):
+        # The rest is made greater only as far as the other's last number does not divide its own.
+        more = abs(other[-1]) // divisor(rest[-1], other[-1])
+        a *= more
+        numbers = [more * number for number in numbers]
+        by = len(rest) - len(other)
+        numbers[by] = more * rest[-1] // other[-1]
+        rest = poly_sum(times(rest, more), raised(times(other, -numbers[by]), by))
+    return a, tuple(numbers), rest
+
+
 def common(one, other):
     """The COMMON poly of two polys, not both nought."""
     while other:
-        one, other = other, remainder(one, other)
+        a, q, rest = long_division(one, other)
+        # Made plain, so that the numbers do not grow from division to division.
+        one, other = other, plain(rest) if rest else ()
     return plain(one)
-
-
-def remainder(one, other):
-    """What is left, up to a whole number, of the one divided by the other, which is not nought."""
-    left = one
-    while len(left) >= len(other):
-        taken = raised(times(other, -left[-1]), len(left) - len(other))
-        left = poly_sum(times(left, other[-1]), taken)
-    # Made plain, so that the numbers do not grow from division to division.
-    return plain(left) if left else ()
 
 
 def quotient(one, other):
     """The poly that times the one, not nought, is the other, or None."""
-    left = other
-    numbers = [0] * max(0, len(other) - len(one) + 1)
-    while len(left) >= len(one):
-        if left[-1] % one[-1] != 0:
-            return None
-        by = len(left) - len(one)
-        numbers[by] = left[-1] // one[-1]
-        left = poly_sum(left, raised(times(one, -numbers[by]), by))
-    return None if left else tuple(numbers)
+    a, q, rest = long_division(other, one)
+    # Where a is above 1, some number of what q over a is was no whole one.
+    return q if a == 1 and not rest else None
 
 
 def powers_of(poly):

@@ -1,5 +1,6 @@
 """The checker of largest papers."""
 
+from pairtally.basics import has_parts
 from pairtally.errors import NoPaper
 from pairtally.webs import are_places, are_ties, parts, shared_place, without_places
 
@@ -20,7 +21,7 @@ def lets_largest(web, thing):
 
 def is_largest_shape(web, thing):
     """Whether the thing, any, is a tuple of two rising tuples, of ties and of places of the web."""
-    if not isinstance(thing, tuple) or len(thing) != 2:
+    if not has_parts(thing, 2):
         return False
     return are_ties(web, thing[0]) and are_places(web, thing[1])
 

@@ -47,13 +47,26 @@ def derived(poly):
     return tuple(k * poly[k] for k in range(1, len(poly)))
 
 
-def worth(poly, fraction):
-    """The poly's worth at the fraction, a FRACTION."""
+def scaled_worth(poly, fraction):
+    """(total, scale), scale above 0: the poly's worth at the fraction is total over scale, times its bottom."""
     top, bottom = fraction
     total = 0
     scale = 1
-    # Only whole numbers are kept: the worth so far is total over scale, times bottom.
     for number in reversed(poly):
         total = total * top + number * scale
         scale *= bottom
-    return lowest(total * bottom, scale)
+    return total, scale
+
+
+def worth(poly, fraction):
+    """The poly's worth at the fraction, a FRACTION."""
+    total, scale = scaled_worth(poly, fraction)
+    return lowest(total * fraction[1], scale)
+
+
+def sign_at(poly, fraction):
+    """1, 0 or -1, as the poly's worth at the fraction is above 0, 0 or below 0."""
+    total = scaled_worth(poly, fraction)[0]
+    if total == 0:
+        return 0
+    return 1 if total > 0 else -1

@@ -1,8 +1,8 @@
 """The checker of root papers."""
 
-from pairtally.basics import is_whole
+from pairtally.basics import has_parts, is_whole
 from pairtally.errors import NoPaper
-from pairtally.polys import is_fraction, is_poly, poly_product, times, worth
+from pairtally.polys import is_fraction, is_poly, poly_product, sign_at, times
 
 
 def lets_roots(poly, thing):
@@ -30,7 +30,7 @@ def look_at_shape(poly, thing):
 
 def is_entry(poly, thing):
     """Whether the thing, any, is an entry by kind, with as many stretches as its factor's degree."""
-    if not isinstance(thing, tuple) or len(thing) != 3:
+    if not has_parts(thing, 3):
         return False
     factor, power, stretches = thing
     if not is_poly(factor) or len(factor) < 2 or not is_whole(power) or not 1 <= power < len(poly):
@@ -42,7 +42,7 @@ def is_entry(poly, thing):
 
 def is_stretch(thing):
     """Whether the thing, any, is a STRETCH."""
-    if not isinstance(thing, tuple) or len(thing) != 2:
+    if not has_parts(thing, 2):
         return False
     low, high = thing
     return is_fraction(low) and is_fraction(high) and not at_most(high, low)
@@ -74,7 +74,7 @@ def are_in_order(stretches):
 def changes_sign(factor, stretch):
     """Whether the factor's worths at the ends of the stretch are one above and one below 0."""
     low, high = stretch
-    return worth(factor, low)[0] * worth(factor, high)[0] < 0
+    return sign_at(factor, low) * sign_at(factor, high) < 0
 
 
 def look_apart(entries):

@@ -1,11 +1,11 @@
 """Webs, their pairings by kind, webs made of them, and their parts."""
 
-from pairtally.basics import are_whole, is_rising, is_whole
+from pairtally.basics import are_whole, has_parts, is_rising, is_whole
 
 
 def is_web(thing):
     """Whether the thing, any, is a WEB."""
-    if not isinstance(thing, tuple) or len(thing) != 2:
+    if not has_parts(thing, 2):
         return False
     many, ties = thing
     if not is_whole(many) or many < 0 or not isinstance(ties, tuple):

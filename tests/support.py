@@ -2,7 +2,7 @@
 
 import copy
 import random
-
+from fractions import Fraction
 
 
 def nested(kind, depth):
@@ -76,6 +76,64 @@ def all_pairings(web):
 def row_gone_through(web):
     sizes = [len(pairing) for pairing in all_pairings(web)]
     return tuple(sizes.count(size) for size in range(max(sizes) + 1))
+
+
+def product_of(polys):
+    """The product of polys, number by number, without the package."""
+    total = [1]
+    for poly in polys:
+        numbers = [0] * (len(total) + len(poly) - 1)
+        for i, left in enumerate(total):
+            for j, right in enumerate(poly):
+                numbers[i + j] += left * right
+        total = numbers
+    return tuple(total)
+
+
+class Piece:
+    """A poly of which it is known how many of its roots, none of which it has twice, are below a Fraction."""
+
+    def __init__(self, poly, many, below):
+        self.poly = poly
+        self.many = many
+        self.below = below
+
+
+def root_piece(top, bottom=1):
+    """Of the root top / bottom."""
+    return Piece((-top, bottom), 1, lambda at: int(at > Fraction(top, bottom)))
+
+
+def square_piece(n):
+    """Of the roots of n, n above 0, no square."""
+    return Piece((-n, 0, 1), 2, lambda at: int(at > 0 or at * at < n) + int(at > 0 and at * at > n))
+
+
+PIECES = (
+    root_piece(0), root_piece(1), root_piece(-1), root_piece(5), root_piece(-7, 2), root_piece(2, 3),
+    root_piece(707, 500), root_piece(10 ** 6 + 1, 10 ** 6), root_piece(-4000),
+    square_piece(2), square_piece(3), square_piece(50),
+    Piece((1, 0, 1), 0, lambda at: 0), Piece((1, 1, 1), 0, lambda at: 0), Piece((3, 0, 0, 0, 2), 0, lambda at: 0),
+)
+REAL_PIECES = tuple(piece for piece in PIECES if piece.many)
+
+
+def drawn_pieces(source, most, pieces=PIECES):
+    """Pieces, some of them again and again, whose degrees sum to at most so much."""
+    taken = []
+    choice = source.sample(pieces, 3)
+    degree = 0
+    while True:
+        piece = source.choice(choice)
+        degree += len(piece.poly) - 1
+        if degree > most:
+            return taken
+        taken.append(piece)
+
+
+def fraction_of(number):
+    """The FRACTION that a Fraction is."""
+    return number.numerator, number.denominator
 
 
 def kind_bends(thing):

@@ -2,7 +2,7 @@ import random
 import unittest
 from fractions import Fraction
 
-from pairtally.polys import derived, is_fraction, is_poly, poly_product, poly_sum, times, worth
+from pairtally.polys import derived, is_fraction, is_poly, poly_product, poly_sum, sign_at, times, worth
 from tests.support import ODD_THINGS, assert_truth, assert_unchanged, exact, kind_bends
 
 GREAT = 10 ** 39 + 1
@@ -110,6 +110,7 @@ class Made(unittest.TestCase):
                 value = sum((number * point ** k for k, number in enumerate(poly)), Fraction(0))
                 expected = (value.numerator, value.denominator)
                 self.assertEqual(exact(worth(poly, (top, bottom))), exact(expected))
+                self.assertEqual(exact(sign_at(poly, (top, bottom))), exact(int(value > 0) - int(value < 0)))
         self.assertEqual(worth((), (3, 7)), (0, 1))
         self.assertEqual(worth((4, 3), (0, 1)), (4, 1))
         self.assertEqual(worth((-4, 0, 1), (-2, 1)), (0, 1))
