@@ -36,8 +36,10 @@ def multiplied(one, other):
         return []
     total = [0] * (len(one) + len(other) - 1)
     for i, left in enumerate(one):
-        for j, right in enumerate(other):
-            total[i + j] += left * right
+        # Of signed polys every other number is 0.
+        if left != 0:
+            for j, right in enumerate(other):
+                total[i + j] += left * right
     return total
 
 
@@ -46,3 +48,13 @@ def divisor(one, other):
     while other != 0:
         one, other = other, one % other
     return abs(one)
+
+
+def choose(n, k):
+    """How many ways there are to take k of n; 0 where there is none."""
+    if not 0 <= k <= n:
+        return 0
+    ways = 1
+    for i in range(k):
+        ways = ways * (n - i) // (i + 1)
+    return ways

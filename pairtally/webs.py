@@ -103,14 +103,15 @@ def tied_places(web):
     return tied
 
 
-def reached(tied, start):
-    """A dict: each place that ways join to start, and the place it was found from, in the order found."""
+def reached(tied, start, barred=()):
+    """A dict, in the order found: each place that ways join to start, by no barred one, and what it was found from."""
+    closed = {place: True for place in barred}
     found = {start: None}
     waiting = [start]
     while waiting:
         place = waiting.pop()
         for other in tied[place]:
-            if other not in found:
+            if other not in found and other not in closed:
                 found[other] = place
                 waiting.append(other)
     return found
