@@ -16,6 +16,11 @@ def are_whole(thing):
     return isinstance(thing, tuple) and all(is_whole(part) for part in thing)
 
 
+def are_from(thing, least):
+    """Whether the thing, any, is a tuple of whole numbers from least on."""
+    return are_whole(thing) and all(part >= least for part in thing)
+
+
 def is_rising(things):
     """Whether things of one kind stand as Python sorts them, each once."""
     return all(things[k - 1] < things[k] for k in range(1, len(things)))

@@ -22,6 +22,14 @@ def lets_count(web, row, thing):
     return True
 
 
+def is_count_paper(web, row, thing):
+    """Whether the thing, any, is a COUNT PAPER of the web and the row."""
+    try:
+        return lets_count(web, row, thing)
+    except NoPaper:
+        return False
+
+
 def look_at_shape(thing):
     """NoPaper where the thing is no tuple of one or more entries by kind."""
     if not isinstance(thing, tuple) or len(thing) == 0:
@@ -36,7 +44,12 @@ def is_entry(thing):
     if not has_parts(thing, 3):
         return False
     web, row, way = thing
-    return is_web(web) and web[0] <= MOST_PLACES and is_row(row) and is_way(web, way)
+    return is_paper_web(web) and is_row(row) and is_way(web, way)
+
+
+def is_paper_web(thing):
+    """Whether the thing, any, is a WEB of so few places that papers may have it."""
+    return is_web(thing) and thing[0] <= MOST_PLACES
 
 
 def is_way(web, thing):

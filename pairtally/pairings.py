@@ -2,7 +2,7 @@
 
 from pairtally.errors import TooMany
 from pairtally.rows import row_on, row_product, row_sum
-from pairtally.webs import parts, reached, tied_places
+from pairtally.webs import even_weights, parts, reached, tied_places
 
 MOST_TOLD = 5000
 MOST_PLACES = 16
@@ -73,7 +73,7 @@ def row_of(web):
     if many <= MOST_PLACES:
         return row_by_places(tied_places(web), tuple(range(many)), {})
     if many <= MOST_RINGLESS and is_ringless(web):
-        return ringless_row(web)
+        return ringless_row(web, even_weights(web))
     raise TooMany("the web has too many places for its row")
 
 
@@ -98,17 +98,18 @@ def is_ringless(web):
     return len(web[1]) == web[0] - len(parts(web))
 
 
-def ringless_row(web):
-    """The row of a web without rings: the product of its parts' rows."""
+def ringless_row(web, weights):
+    """The row, by the WEIGHTS, of a web without rings: the product of its parts' rows."""
     tied = tied_places(web)
+    heavy = dict(zip(web[1], weights))
     row = (1,)
     for part in parts(web):
-        row = row_product(row, tree_row(tied, part[0]))
+        row = row_product(row, tree_row(tied, heavy, part[0]))
     return row
 
 
-def tree_row(tied, root):
-    """The row of the ringless part that root lies in."""
+def tree_row(tied, heavy, root):
+    """The row, by each tie's weight in heavy, of the ringless part that root lies in."""
     above = reached(tied, root)
     # Of each place, with what hangs below it: all pairings, and those that leave it bare.
     whole = {place: (1,) for place in above}
@@ -117,7 +118,8 @@ def tree_row(tied, root):
     for place in list(above)[::-1]:
         if place != root:
             up = above[place]
+            tied_up = (0, heavy[(min(up, place), max(up, place))])
             both_bare = row_product(bare[up], bare[place])
-            whole[up] = row_sum(row_product(whole[up], whole[place]), row_on(both_bare))
+            whole[up] = row_sum(row_product(whole[up], whole[place]), row_product(tied_up, both_bare))
             bare[up] = row_product(bare[up], whole[place])
     return whole[root]

@@ -1,7 +1,7 @@
 """The maker of ring papers, and the row of a web without rings."""
 
 from pairtally.pairings import is_ringless, ringless_row
-from pairtally.webs import reached, tied_places
+from pairtally.webs import even_weights, reached, tied_places
 
 
 def ring_paper(web):
@@ -45,4 +45,4 @@ def way_up(above, place):
 
 def forest_row(web):
     """The row of a web without rings; None where there is a ring."""
-    return ringless_row(web) if is_ringless(web) else None
+    return ringless_row(web, even_weights(web)) if is_ringless(web) else None

@@ -1,13 +1,16 @@
 """Rows: how many pairings there are of each size."""
 
-from pairtally.basics import added, are_whole, multiplied
+from pairtally.basics import added, are_from, multiplied
 
 
 def is_row(thing):
     """Whether the thing, any, is a ROW by its kind."""
-    if not are_whole(thing) or len(thing) == 0:
-        return False
-    return all(number >= 0 for number in thing) and thing[-1] != 0
+    return are_from(thing, 0) and len(thing) > 0 and thing[-1] != 0
+
+
+def is_row_from_one(thing):
+    """Whether the thing, any, is a ROW by its kind without noughts, as that of each web is."""
+    return are_from(thing, 1) and len(thing) > 0
 
 
 def row_sum(one, other):

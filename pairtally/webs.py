@@ -94,6 +94,11 @@ def renumbered(web, numbers):
     return web[0], tuple(sorted([(min(pair), max(pair)) for pair in called]))
 
 
+def even_weights(web):
+    """The WEIGHTS of the web that are all 1."""
+    return (1,) * len(web[1])
+
+
 def tied_places(web):
     """The list with, at each place, the list of its neighbours, rising."""
     tied = [[] for place in range(web[0])]
