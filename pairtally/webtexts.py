@@ -14,7 +14,7 @@ def web_text(web):
 def read_web(text):
     """The web that the text writes; NoText of any other text."""
     words = text.split(" ")
-    many = read_number(words[0])
+    many = read_number(words[0], MOST_FIGURES)
     if many is None:
         raise NoText(0)
     ties = []
@@ -26,10 +26,9 @@ def read_web(text):
     return many, tuple(ties)
 
 
-def read_number(word):
-    """The number that the word writes, or None where it writes none or has too many figures."""
-    # Numbers of ties stand below MANY, so they can't have more figures than it either.
-    if word == "" or len(word) > MOST_FIGURES or not all(sign in FIGURES for sign in word):
+def read_number(word, most):
+    """The number that the word writes, or None where it writes none or has more figures than most."""
+    if word == "" or len(word) > most or not all(sign in FIGURES for sign in word):
         return None
     if word[0] == "0" and word != "0":
         return None
@@ -38,10 +37,16 @@ def read_number(word):
 
 def read_tie(word, many):
     """The tie of a web of so many places that the word writes, or None."""
-    numbers = [read_number(piece) for piece in word.split("-")]
+    # Numbers of ties stand below MANY, so they can't have more figures than it either.
+    pair = read_pair(word, MOST_FIGURES)
+    if pair is None or not pair[0] < pair[1] < many:
+        return None
+    return pair
+
+
+def read_pair(word, most):
+    """The two numbers that the word writes as I-J, or None where it is none or one has more figures than most."""
+    numbers = [read_number(piece, most) for piece in word.split("-")]
     if len(numbers) != 2 or None in numbers:
         return None
-    i, j = numbers
-    if not i < j < many:
-        return None
-    return i, j
+    return tuple(numbers)

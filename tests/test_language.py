@@ -60,6 +60,14 @@ def bound_names(tree):
             yield node.id, node
 
 
+def own_methods():
+    """The name of each method of a class of the package."""
+    for path, text, tree in package():
+        for kind in nodes(tree, ast.ClassDef):
+            for node in nodes(kind, ast.FunctionDef):
+                yield node.name
+
+
 def called_name(node):
     return node.func.id if isinstance(node, ast.Call) and isinstance(node.func, ast.Name) else None
 
@@ -171,6 +179,7 @@ class Language(unittest.TestCase):
                     self.assertFalse(hasattr(builtins, node.name) or node.name in BARRED_NAMES, (path, node.name))
 
     def test_builtins_and_methods(self):
+        methods = METHODS | set(own_methods())
         for path, text, tree in package():
             own = {name for name, node in bound_names(tree)}
             own |= {node.name for node in nodes(tree, ast.FunctionDef, ast.ClassDef)}
@@ -179,7 +188,18 @@ class Language(unittest.TestCase):
                 self.assertTrue(node.id in own or node.id in BUILTINS, (path, node.id, node.lineno))
             for node in nodes(tree, ast.Call):
                 if isinstance(node.func, ast.Attribute):
-                    self.assertIn(node.func.attr, METHODS, (path, node.lineno))
+                    self.assertIn(node.func.attr, methods, (path, node.lineno))
+
+    def test_classes(self):
+        attributes = set()
+        for path, text, tree in package():
+            for node in nodes(tree, ast.Attribute):
+                if isinstance(node.ctx, ast.Store):
+                    self.assertEqual(getattr(node.value, "id", None), "self", (path, node.lineno))
+                    attributes.add(node.attr)
+        self.assertEqual(attributes & (set(own_methods()) | METHODS), set())
+        for kind in (str, int, list, dict, set, bytes, tuple):
+            self.assertEqual((attributes | set(own_methods()) - {"__init__"}) & set(dir(kind)), set())
 
     def test_is_and_handlers(self):
         for path, text, tree in package():

@@ -311,6 +311,11 @@ class Entries(LikeCase):
             self.refused_last("entry", ahead + ((one, other, way),))
         self.refused_last("entry", (MIXED[0], MIXED[9]))
         self.refused_last("entry", (TWO, MIXED[9]))
+        # What is no place of a web has no neighbours there, and leaving it out would leave the web as it is.
+        alone = same_entries((bare(1), bare(1)), (bare(2), bare(1)), (bare(1), bare(2)), (bare(2), bare(2)))
+        self.let_by(alone + ((bare(2), bare(2), ("place", 1, 0, ())),))
+        for p, q in ((2, 0), (-1, 0), (0, 2), (0, -1), (2, 2), (-1, 2)):
+            self.refused_last("entry", alone + ((bare(2), bare(2), ("place", p, q, ())),))
         # Neighbour by neighbour: the one's place 1 has its end first, the other's last.
         one, other, order = line(5), (5, ((0, 1), (0, 3), (1, 4), (2, 3))), (4, 0)
         asked = [(without_places(one, (1,)), without_places(other, (1,)))]
